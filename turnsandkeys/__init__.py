@@ -1,0 +1,1 @@
+"""Turnsandkeys: a common house, and what it costs to break its promises."""

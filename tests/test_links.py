@@ -92,6 +92,7 @@ class UsingTest(Case):
         self.fails(BadCount, {"size": 3}, links.raised, [-1, 0, 0])
         self.fails(BadCount, {"size": 5}, links.raised, [-1, 0, 0, 0, 0])
         self.fails(BadNumber, {"number": -2}, links.raised, [10 ** 9, 0, -2, -3])
+        self.fails(BadNumber, {"number": -1}, links.raised, [-1, 0, 0, 0])
         self.fails(BadNumber, {"number": 10 ** 9 + 2}, links.raised, [0, 10 ** 9 - 7, 10 ** 9 + 2, 1])
         self.fails(BadNumber, {"number": 10 ** 9 + 1}, links.raised, (0, 10 ** 9 - 7, 10 ** 9, 1))
         self.fails(BadNumber, {"number": 10 ** 59 + 2}, links.raised, [10 ** 59, 0, 0, 0])

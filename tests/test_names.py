@@ -49,6 +49,8 @@ class NamesTest(Case):
     def test_arrangements(self):
         self.assertEqual(arrangements([], 2), [()])
         self.assertEqual(arrangements(["b", "a"], 0), [()])
+        self.assertEqual(arrangements(["c", "b", "a"], 1), [(), ("c",), ("b",), ("a",)])
+        self.assertEqual(len(arrangements(["a", "b", "c", "d"], 2)), 1 + 4 + 12)
         self.assertEqual(arrangements(("b", "a"), 5), [(), ("b",), ("b", "a"), ("a",), ("a", "b")])
 
 

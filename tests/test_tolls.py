@@ -138,13 +138,14 @@ class UsingTest(Case):
             self.assertEqual(Tolls(first.names, first.entries()), first)
 
     def test_other_names(self):
-        tolls = Tolls(["a", "b"])
+        tolls = Tolls(["a", "b"], [("a", "b", 4)])
         for names in (["b", "a"], ["a"], ["a", "b", "c"], ["a", "c"]):
             other = Tolls(names)
             self.fails(OtherNames, {}, lambda: tolls * other)
             self.fails(OtherNames, {}, lambda: other * tolls)
             self.fails(OtherNames, {}, lambda: tolls | other)
             self.fails(OtherNames, {}, lambda: other | tolls)
+            self.assertEqual((tolls.entries(), other.entries()), ([("a", "b", 4)], []))
 
     def test_call(self):
         tolls = Tolls(["a", "b", "c"], [("a", "b", 2), ("b", "b", 1), ("b", "c", 10 ** 59)])

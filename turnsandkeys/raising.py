@@ -2,7 +2,7 @@
 
 from turnsandkeys.names import check_known, check_range
 from turnsandkeys.prices import least
-from turnsandkeys.ways import potentials, way_toll
+from turnsandkeys.ways import potentials
 
 
 class Raising:
@@ -26,8 +26,7 @@ def least_raising(links, givers, takers, price):
         if _surplus(links, used, name) < 0:
             starts[name] = price
     costs, _ = _unit_costs(links, used, starts)
-    ways = [way for way in _trails(links, used) if way_toll(links, way) < price]
-    return Raising(_raises(links, costs), ways)
+    return Raising(_raises(links, costs), _trails(links, used))
 
 
 def keeps_apart(links, givers, takers, price):
@@ -102,7 +101,11 @@ def _surplus(links, used, name):
 
 
 def _trails(links, used):
-    """Ways that the units take; rings of used links that no way needs are left out."""
+    """Ways that the units take; rings of used links that no way needs are left out.
+
+    Each way costs less than the price, as the units without it would else be cheaper than
+    the same number of units was when the last one was sent.
+    """
     trails = []
     left = used
     for name in links.names:

@@ -66,13 +66,12 @@ def ladder_prices(bidders, *, hours=1, floor=0):
 
 
 def _raises(bidders, names, hours, floor):
-    outside = [at for at, bidder in enumerate(bidders) if bidder[0] not in names]
-    strongest = max([strength(bidders[at]) for at in outside], default=-1)
+    # Those who must rank behind, as pairs of strength and place: first all who are not named.
+    behind = [(strength(bidder), place) for place, bidder in enumerate(bidders) if bidder[0] not in names]
+    strongest = max([rival for rival, _ in behind], default=-1)
     if len(names) > hours or (len(names) < hours and strongest >= floor):
         return None
     raises = [0] * len(bidders)
-    # Those who must rank behind, as pairs of strength and place.
-    behind = [(strength(bidders[at]), at) for at in outside]
     for name in reversed(list(names)):
         at = _names(bidders).index(name)
         _, weight, bid = bidders[at]

@@ -28,8 +28,8 @@ def turning_order(roll, option):
 def turning_roll(roll, option):
     """A roll of the fewest ballots that make the option win if they are put in."""
     order = turning_order(roll, option)
-    before = {name: 0 for name in roll.options}
-    serving = {name: [] for name in roll.options}
+    before = {other: 0 for other in roll.options}
+    serving = {other: [] for other in roll.options}
     free = []
     for leaver, row in zip(order, lack_rows(roll, order)):
         for name in row:

@@ -3,6 +3,7 @@
 import unittest
 
 from turnsandkeys.counts import count
+from turnsandkeys.guests import Guests
 from turnsandkeys.lacks import lack_table
 from turnsandkeys.ladders import ladder, ladder_prices
 from turnsandkeys.links import Links
@@ -31,6 +32,11 @@ class ExamplesTest(unittest.TestCase):
         given = dearest(bidders, [3, 1])
         found = [ladder(bidders, hours=2), ladder_prices(bidders), given.total, given.rents]
         self.assertEqual(found, [("ann", "ben"), [(("ann",), 0), (("ben",), 1), (("cid",), 2)], 19, (12, 4)])
+
+    def test_fourth(self):
+        guests = Guests([(10, 2), (3, 1), (6, 3)], 4)
+        found = [guests.best(), guests.best(most=1), guests.floor]
+        self.assertEqual(found, [((0, 2), (38, 9)), ((0,), (10, 3)), 5])
 
 
 if __name__ == "__main__":

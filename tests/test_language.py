@@ -19,6 +19,7 @@ DUNDERS = set(
     "neg pos invert abs bool contains getitem setitem iadd isub imul".split()
 )
 WORDS = re.compile(r"\b(register|mro|elements|open|input|law|eval|exec|getattr|setattr|hasattr|globals|locals|vars|id|dir)\b")
+COMPREHENSIONS = (ast.ListComp, ast.DictComp, ast.SetComp)
 
 
 def files():
@@ -43,6 +44,17 @@ def bound_names(tree):
         elif isinstance(node, ast.ExceptHandler) and node.name:
             found.add(node.name)
     return found
+
+
+def comprehension_targets(node):
+    """The names that a comprehension itself assigns, not those of comprehensions inside it."""
+    return [
+        target for part in node.generators for target in ast.walk(part.target) if isinstance(target, ast.Name)
+    ]
+
+
+def names_of(targets):
+    return {target.id for target in targets} - {"_"}
 
 
 class LanguageTest(unittest.TestCase):
@@ -127,6 +139,32 @@ class LanguageTest(unittest.TestCase):
                     self.assertNotIn(node.arg, tops, f"{path.name}:{node.lineno}")
                 if isinstance(node, ast.Name) and not isinstance(node.ctx, ast.Load):
                     self.assertNotIn(node.id, tops, f"{path.name}:{node.lineno}")
+
+    def test_variables_of_comprehensions_have_names_of_their_own(self):
+        for path, tree in trees():
+            for function in [node for node in ast.walk(tree) if isinstance(node, (ast.FunctionDef, ast.Lambda))]:
+                inside = [node for node in ast.walk(function) if isinstance(node, COMPREHENSIONS)]
+                variables = [target for node in inside for target in comprehension_targets(node)]
+                taken = {node.arg for node in ast.walk(function.args) if isinstance(node, ast.arg)}
+                for node in ast.walk(function):
+                    if isinstance(node, ast.Name) and isinstance(node.ctx, ast.Store) and node not in variables:
+                        taken.add(node.id)
+                for node in inside:
+                    found = names_of(comprehension_targets(node))
+                    self.assertEqual(found & taken, set(), f"{path.name}:{node.lineno}")
+                    deeper = [other for other in ast.walk(node) if other is not node and other in inside]
+                    self.assertTrue(all(not found & names_of(comprehension_targets(other)) for other in deeper))
+
+    def test_no_two_files_import_from_each_other(self):
+        needs = {}
+        for path, tree in trees():
+            modules = {node.module for node in ast.walk(tree) if isinstance(node, ast.ImportFrom)}
+            needs["turnsandkeys." + path.stem] = {module for module in modules if module not in LIBRARY}
+        while needs:
+            free = [module for module in needs if not needs[module] & set(needs)]
+            self.assertNotEqual(free, [], f"a ring of imports: {sorted(needs)}")
+            for module in free:
+                del needs[module]
 
     def test_no_name_is_a_method_and_an_attribute(self):
         methods, attributes = set(), set()

@@ -122,7 +122,7 @@ class ChecksTest(Case):
 
     def test_page(self):
         for at in range(3):
-            name, bids, followers = PAGES[at]
+            _, bids, followers = PAGES[at]
             for wrong in ("", "Mon", "mondaymon", "a b"):
                 self.wrong("page", at, MEMBERS, changed_page(at, (wrong, bids, followers)), [], home=["x"])
         self.wrong("page", 1, MEMBERS, changed_page(1, ("mon", [], ["wed"])), [])

@@ -19,6 +19,7 @@ DUNDERS = set(
     "neg pos invert abs bool contains getitem setitem iadd isub imul".split()
 )
 WORDS = re.compile(r"\b(register|mro|elements|open|input|law|eval|exec|getattr|setattr|hasattr|globals|locals|vars|id|dir)\b")
+LOUD = ("__init__", "__enter__", "__exit__", "__call__", "__iter__", "__setitem__")
 COMPREHENSIONS = (ast.ListComp, ast.DictComp, ast.SetComp)
 
 
@@ -55,6 +56,36 @@ def comprehension_targets(node):
 
 def names_of(targets):
     return {target.id for target in targets} - {"_"}
+
+
+def own_functions():
+    """All functions and methods of the package by their names, with all that have one name."""
+    found = {}
+    for _, tree in trees():
+        for node in ast.walk(tree):
+            if isinstance(node, ast.FunctionDef):
+                found.setdefault(node.name, []).append(node)
+            if isinstance(node, ast.ClassDef):
+                made = [row for row in node.body if isinstance(row, ast.FunctionDef) and row.name == "__init__"]
+                found.setdefault(node.name, []).extend(made)
+    return found
+
+
+def quiet_functions():
+    """Properties that are read, operators, and what L5 counts among them."""
+    found = []
+    for name, nodes in own_functions().items():
+        for node in nodes:
+            words = [word.id for word in node.decorator_list if isinstance(word, ast.Name)]
+            if "property" in words or (name.strip("_") in DUNDERS and name not in LOUD):
+                found.append(node)
+    return found
+
+
+def names_in(function):
+    """Whatever a function could call or read, by its name."""
+    names = {node.id for node in ast.walk(function) if isinstance(node, ast.Name)}
+    return names | {node.attr for node in ast.walk(function) if isinstance(node, ast.Attribute)}
 
 
 class LanguageTest(unittest.TestCase):
@@ -177,6 +208,20 @@ class LanguageTest(unittest.TestCase):
                 if isinstance(node, ast.Attribute) and isinstance(node.ctx, ast.Store):
                     attributes.add(node.attr)
         self.assertEqual(methods & attributes, set())
+
+    def test_properties_and_operators_run_no_generator(self):
+        functions = own_functions()
+        waiting = quiet_functions()
+        self.assertIn("floor", [node.name for node in waiting])
+        seen = set(waiting)
+        while waiting:
+            function = waiting.pop()
+            for node in ast.walk(function):
+                self.assertNotIsInstance(node, (ast.Yield, ast.YieldFrom), function.name)
+            for name in names_in(function):
+                fresh = [other for other in functions.get(name, []) if other not in seen]
+                waiting.extend(fresh)
+                seen.update(fresh)
 
 
 if __name__ == "__main__":

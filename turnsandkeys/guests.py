@@ -37,27 +37,32 @@ class Guests:
 
     def best(self, *, most=None):
         """The lot that the greatest mean picks, and this mean."""
-        pairs = list(self.climb(most=most))
-        rate, lot = pairs[-1]
+        rate, lot = self._climbed(most)[-1]
         return (lot, rate)
 
     def climb(self, *, most=None):
         """Pairs of a rate and the lot that it picks, from the rate 0 up to the greatest mean."""
-        if most is not None and most < 0:
-            raise BadNumber(most)
-        rate = (0, 1)
-        lot = self._picked(rate, most)
-        while self.mean(lot) != rate:
-            yield (rate, lot)
-            rate = self.mean(lot)
-            lot = self._picked(rate, most)
-        yield (rate, lot)
+        for pair in self._climbed(most):
+            yield pair
 
     @property
     def floor(self):
         """The least integer that is not less than the greatest mean of all lots."""
         _, (top, bottom) = self.best()
         return (top + bottom - 1) // bottom
+
+    def _climbed(self, most):
+        """The list of all pairs of the climb: a property needs them, and it runs no generator."""
+        if most is not None and most < 0:
+            raise BadNumber(most)
+        rate = (0, 1)
+        lot = self._picked(rate, most)
+        pairs = [(rate, lot)]
+        while self.mean(lot) != rate:
+            rate = self.mean(lot)
+            lot = self._picked(rate, most)
+            pairs.append((rate, lot))
+        return pairs
 
     def _picked(self, rate, most):
         """The lot of the offers with the greatest excesses above 0 at the rate."""

@@ -6,6 +6,17 @@ import unittest
 from turnsandkeys.errors import HouseError
 
 
+def laid_open(thing):
+    """A thing with all that it holds, as values that can be compared."""
+    if isinstance(thing, (list, tuple)):
+        return (type(thing), [laid_open(part) for part in thing])
+    if isinstance(thing, dict):
+        return (dict, [(laid_open(key), laid_open(part)) for key, part in thing.items()])
+    if type(thing).__module__.startswith("turnsandkeys"):
+        return (type(thing), laid_open(vars(thing)))
+    return thing
+
+
 class Case(unittest.TestCase):
     """A test case that can look closely at the errors of the program."""
 
@@ -26,6 +37,13 @@ class Case(unittest.TestCase):
         second = call()
         self.assertEqual(second, kept)
         self.assertIsNot(first, second)
+
+    def keeps_arguments(self, call, *args, **named):
+        """The call changes nothing that it is passed; returns what the call returns."""
+        before = laid_open([args, named])
+        found = call(*args, **named)
+        self.assertEqual(laid_open([args, named]), before)
+        return found
 
     def has_parameters(self, call, *expected):
         """The parameters are as written: `name`, `name=default`, `*`, `*names`."""

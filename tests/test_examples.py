@@ -4,8 +4,10 @@ import unittest
 
 from turnsandkeys.bounds import full_price, sure_price
 from turnsandkeys.counts import count
+from turnsandkeys.errors import BadStep
 from turnsandkeys.games import house_price
 from turnsandkeys.guests import Guests
+from turnsandkeys.habits import Habit
 from turnsandkeys.houses import House
 from turnsandkeys.lacks import lack_table
 from turnsandkeys.ladders import ladder, ladder_prices
@@ -58,6 +60,11 @@ class ExamplesTest(unittest.TestCase):
         house = House([day, hard], book, [(("day",), 2), (("hard",), 1)])
         found = [house.vote_price("day", "hard"), full_price(house), house_price(house), sure_price(house)]
         self.assertEqual(found, [2, 5, 5, 3])
+
+    def test_seventh(self):
+        with self.assertRaises(BadStep) as caught:
+            Habit.read("over 2,not ann")
+        self.assertEqual(caught.exception.place, 0)
 
 
 if __name__ == "__main__":

@@ -161,6 +161,14 @@ class LanguageTest(unittest.TestCase):
             for name in bound_names(tree):
                 self.assertIsNone(WORDS.fullmatch(name), path.name)
 
+    def test_reversed_takes_lists(self):
+        for path, tree in trees():
+            for node in ast.walk(tree):
+                if isinstance(node, ast.Call) and isinstance(node.func, ast.Name) and node.func.id == "reversed":
+                    [given] = node.args
+                    self.assertIsInstance(given, ast.Call, f"{path.name}:{node.lineno}")
+                    self.assertIn(given.func.id, ("list", "tuple", "sorted", "range"), f"{path.name}:{node.lineno}")
+
     def test_no_parameter_or_variable_hides_an_import_or_a_class(self):
         for path, tree in trees():
             tops = {node.name for node in tree.body if isinstance(node, ast.ClassDef)}

@@ -32,11 +32,16 @@ def _run_line(desk, line, words):
         raise BadCommand(line)
     reader = READERS[kind]
     told = reader(line, words[1:])
-    action = ACTIONS[kind]
     try:
-        return action(desk, *told)
+        return _answers(desk, kind, told)
     except HouseError as why:
         raise BadCommand(line) from why
+
+
+def _answers(desk, kind, told):
+    """What the desk answers to a line that is right."""
+    action = ACTIONS[kind]
+    return action(desk, *told)
 
 
 def _check_size(line, words, size):

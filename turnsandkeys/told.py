@@ -115,7 +115,7 @@ def _layers(house, row):
 def _lasting_layers(layers):
     """The layers with only those pairs and ways that lead to the end of the row."""
     kept = [layers[-1]]
-    for layer in reversed(layers[:-1]):
+    for layer in reversed(list(layers[:-1])):
         ways = {pair: [way for way in told if way[1] in kept[0]] for pair, told in layer.items()}
         kept = [{pair: told for pair, told in ways.items() if told}, *kept]
     return kept

@@ -95,6 +95,28 @@ ballots 3
 ballots 1 ben
 ballots 1 ben aside"""
 
+WITH_BARRED_KEEPERS = """members ann page
+bid none
+limit 3
+barred ann
+deposit 1
+fee 2
+start 1
+weights 2 2
+hours 3
+turn aside
+limit 3
+deposit 1
+fee 4
+start 1
+page z page 4 > limit
+page turn > limit
+page begin > begin z turn limit
+page limit ann 2 page 1 > turn begin
+home begin
+begin limit begin turn
+ballots 2 none aside"""
+
 
 class BarrenTest(Case):
     def test_by_hand(self):
@@ -196,6 +218,13 @@ class KnotsTest(Case):
         self.assertEqual((len(knots), broken), (301, True))
         self.fails(TooLarge, {}, barren_row, house, most=6)
         self.fails(TooLarge, {}, barren_row, house, most=8)
+
+    def test_pairs_with_barred_keepers_make_no_other_knots(self):
+        # If these pairs stayed in the knots, there would be 306 of them.
+        house = read_house(WITH_BARRED_KEEPERS)
+        knots, broken = knots_by_hand(house, 6)
+        self.assertEqual((len(knots), broken), (300, False))
+        self.assertIsNone(barren_row(house, most=6))
 
     def test_wrong_most_before_too_large(self):
         self.fails(BadNumber, {"number": 9}, barren_row, read_house(ONE_MORE), most=9)

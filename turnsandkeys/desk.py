@@ -2,14 +2,14 @@
 
 from turnsandkeys.deeds import outcome, outcomes
 from turnsandkeys.errors import (
-    BadStanding, DeskOver, MoveWaits, NoMove, NoMoveWaits, NothingToRedo, NothingToUndo, PagesFollow, UnknownPage,
+    DeskOver, MoveWaits, NoMove, NoMoveWaits, NothingToRedo, NothingToUndo, PagesFollow, UnknownPage,
 )
 from turnsandkeys.games import Game
 from turnsandkeys.houses import House
 from turnsandkeys.names import check_range
 from turnsandkeys.prices import plus
 from turnsandkeys.rolls import Roll, SumRows
-from turnsandkeys.standings import first_standings, is_standing, moves
+from turnsandkeys.standings import first_standings, moves
 
 MOST_MEMORY = 100
 
@@ -117,8 +117,7 @@ class Desk:
         _check_no_move(scene)
         old = scene.house.rule(rule)
         house = scene.house.with_rule(old.changed(**parts))
-        if not is_standing(house, scene.standing):
-            raise BadStanding(scene.standing)
+        # The game refuses a standing that the changed house does not have, and too many standings.
         game = Game(house, at=scene.standing)
         self.step_to(Scene(house, game, scene.standing, None, None, scene.rounds))
 

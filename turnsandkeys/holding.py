@@ -18,7 +18,10 @@ def spots_of(house):
 
 
 def round_ways(house, page, rule, before):
-    """The triples of takers, the keeper and the price, for all rounds with this keeper before them."""
+    """The triples of takers, the keeper and the price, for all rounds with this keeper before them.
+
+    It refuses a page, then a rule, that the house does not have.
+    """
     leaf, ruling = house.book.page(page), house.rule(rule)
     found = []
     for takers, price in _lets(leaf, ruling, before):
@@ -35,9 +38,6 @@ def round_ways(house, page, rule, before):
 
 def hold_tolls(house, page, rule):
     """The least prices of a round by the keeper before it and the keeper at its end."""
-    # These two refuse a page and a rule that the house does not have.
-    house.book.page(page)
-    house.rule(rule)
     spots = spots_of(house)
     return Tolls(spots, [
         (before, keeper, price)
@@ -49,10 +49,12 @@ def hold_tolls(house, page, rule):
 def round_tolls(house, rounds):
     """The Tolls of each round; equal rounds share theirs."""
     known = {}
+    found = []
     for page, rule in rounds:
         if (page, rule) not in known:
             known[page, rule] = hold_tolls(house, page, rule)
-    return [known[told] for told in rounds]
+        found.append(known[page, rule])
+    return found
 
 
 def keeper_prices(house, rounds):
